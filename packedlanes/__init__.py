@@ -1,0 +1,1 @@
+"""Packedlanes: many small numbers in one great number."""

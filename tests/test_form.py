@@ -1,0 +1,73 @@
+"""The files of the package: what they define, what they import, and how long they are; and the examples of README.md."""
+
+import ast
+import doctest
+import pathlib
+import unittest
+
+TOP = pathlib.Path(__file__).resolve().parent.parent
+FILES = sorted((TOP / "packedlanes").rglob("*.py"))
+METHODS = {
+    "rows.py": {"Row": "__init__ size entry __add__ __sub__ __mul__ __floordiv__ __mod__ __eq__ times power up down "
+                       "low at carry"},
+    "packs.py": {"Pack": "__init__ __add__ __sub__ __mul__ __eq__ times up down over rest digits balanced plain_row "
+                         "balanced_row"},
+}
+FUNCTIONS = {"rows.py": ["same_widths"], "packs.py": ["packed"]}
+LIBRARY = ("heapq", "math", "itertools", "collections")
+
+
+def tree_of(path):
+    return ast.parse(path.read_text(encoding="utf-8"))
+
+
+class FormTest(unittest.TestCase):
+    def test_interface_is_defined_in_its_files(self):
+        for name, classes in METHODS.items():
+            body = tree_of(TOP / "packedlanes" / name).body
+            bodies = {part.name: part.body for part in body if isinstance(part, ast.ClassDef)}
+            for kind, methods in classes.items():
+                defined = [part.name for part in bodies[kind] if isinstance(part, ast.FunctionDef)]
+                self.assertEqual([method for method in methods.split() if method not in defined], [])
+            defined = [part.name for part in body if isinstance(part, ast.FunctionDef)]
+            self.assertEqual([word for word in FUNCTIONS[name] if word not in defined], [])
+
+    def test_characters_and_lengths(self):
+        for path in FILES:
+            with self.subTest(path.name):
+                data = path.read_bytes()
+                self.assertEqual([byte for byte in data if byte != 10 and not 32 <= byte <= 126], [])
+                lines = data.decode("ascii").split("\n")
+                self.assertLessEqual(len(lines), 400)
+                self.assertLessEqual(max(len(line) for line in lines), 120)
+                for part in ast.walk(tree_of(path)):
+                    if isinstance(part, ast.FunctionDef):
+                        self.assertLessEqual(part.end_lineno - part.lineno + 1, 40, part.name)
+
+    def test_imports_only_the_package_and_the_listed_library(self):
+        names = [path.stem for path in FILES]
+        for path in FILES:
+            for part in ast.walk(tree_of(path)):
+                self.assertNotIsInstance(part, ast.Import)
+                if isinstance(part, ast.ImportFrom):
+                    self.assertEqual(part.level, 0)
+                    first, *more = part.module.split(".")
+                    self.assertTrue(first in LIBRARY or first == "packedlanes" and more[0] in names, part.module)
+
+    def test_no_floats_no_division_no_power_signs(self):
+        for path in FILES:
+            for part in ast.walk(tree_of(path)):
+                self.assertNotIsInstance(part, (ast.Div, ast.Pow, ast.Global, ast.AsyncFunctionDef))
+                if isinstance(part, ast.Constant):
+                    self.assertNotIsInstance(part.value, (float, complex))
+
+    def test_examples_of_the_readme(self):
+        text = (TOP / "README.md").read_text(encoding="utf-8").replace("```", "")
+        examples = doctest.DocTestParser().get_doctest(text, {}, "README.md", "README.md", 0)
+        found = doctest.DocTestRunner().run(examples)
+        self.assertGreater(found.attempted, 6)
+        self.assertEqual(found.failed, 0)
+
+
+if __name__ == "__main__":
+    unittest.main()
