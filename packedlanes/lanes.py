@@ -139,7 +139,7 @@ def _packing_pays(one, other):
 
 def _product_by_pairs(one, other):
     second = [(lane, worth) for lane, worth in enumerate(other) if worth != 0]
-    sums = [0] * (len(one) + len(other))
+    sums = [0 for _ in range(len(one) + len(other))]
     for low, factor in enumerate(one):
         if factor != 0:
             for high, worth in second:

@@ -15,10 +15,31 @@ METHODS = {
 }
 FUNCTIONS = {"rows.py": ["same_widths"], "packs.py": ["packed"]}
 LIBRARY = ("heapq", "math", "itertools", "collections")
+CHANGING = ("append", "clear", "extend", "insert", "pop", "remove", "reverse", "sort")
 
 
 def tree_of(path):
     return ast.parse(path.read_text(encoding="utf-8"))
+
+
+def parts_of(tree, kind):
+    return [part for part in ast.walk(tree) if isinstance(part, kind)]
+
+
+def names_changed(function):
+    """The names of the lists of which the function gives an item or calls a method that changes them."""
+    given = [part.value for part in parts_of(function, ast.Subscript) if not isinstance(part.ctx, ast.Load)]
+    called = [part.func for part in parts_of(function, ast.Call) if isinstance(part.func, ast.Attribute)]
+    given += [part.value for part in called if part.attr in CHANGING]
+    return {part.id for part in given if isinstance(part, ast.Name)}
+
+
+def names_multiplied(function):
+    """The names that the function assigns a list or a tuple multiplied by a number."""
+    found = [part for part in parts_of(function, ast.Assign) if isinstance(part.value, ast.BinOp)
+             and isinstance(part.value.op, ast.Mult)
+             and isinstance(part.value.left, (ast.List, ast.Tuple, ast.ListComp))]
+    return {target.id for part in found for target in part.targets if isinstance(target, ast.Name)}
 
 
 class FormTest(unittest.TestCase):
@@ -60,6 +81,13 @@ class FormTest(unittest.TestCase):
                 self.assertNotIsInstance(part, (ast.Div, ast.Pow, ast.Global, ast.AsyncFunctionDef))
                 if isinstance(part, ast.Constant):
                     self.assertNotIsInstance(part.value, (float, complex))
+
+    def test_lists_that_are_changed_are_not_made_by_the_sign_of_products(self):
+        told = ast.parse("def f(n):\n    a = b = [0] * n\n    c = [0 for _ in range(n)]\n    a[1] = c[2] = b[0]\n")
+        self.assertEqual((names_multiplied(told), names_changed(told)), ({"a", "b"}, {"a", "c"}))
+        for path in FILES:
+            for part in parts_of(tree_of(path), ast.FunctionDef):
+                self.assertEqual(names_multiplied(part) & names_changed(part), set(), part.name)
 
     def test_examples_of_the_readme(self):
         text = (TOP / "README.md").read_text(encoding="utf-8").replace("```", "")
