@@ -1,4 +1,4 @@
-"""What rows and packs share: sequences of entries, and the one number that holds them."""
+"""What the other files share: sequences of entries, and the one number that holds them."""
 
 from packedlanes.errors import BadLanes, BadWidth
 
