@@ -189,7 +189,7 @@ def quotient(entries, divisor):
     return low + high
 
 
-def rest(entries, divisor):
+def rest_row(entries, divisor):
     """The rest row, as a list, of a row by one whose last entry is 1."""
     taken = product(quotient(entries, divisor), divisor)
     return added(entries, negated(taken))[:len(divisor) - 1]

@@ -41,7 +41,7 @@ def least_width(one, other):
         if least < 0:
             return ProductWidth(None, lane, _rows_at_end(first, second, lane, -1))
     needs = [(greatest.bit_length(), lane, 1) for lane, (_, greatest) in enumerate(ends)]
-    return _product_width(first, second, needs)
+    return _widest_need(first, second, needs)
 
 
 def balanced_width(one, other):
@@ -50,7 +50,7 @@ def balanced_width(one, other):
     ends = _ends_of_lanes(first, second)
     needs = [(_balanced_bits(least), lane, -1) for lane, (least, _) in enumerate(ends)]
     more = [(_balanced_bits(greatest), lane, 1) for lane, (_, greatest) in enumerate(ends)]
-    return _product_width(first, second, needs + more)
+    return _widest_need(first, second, needs + more)
 
 
 def cut_ends(one, other, lanes, width):
@@ -108,7 +108,7 @@ def _balanced_bits(worth):
     return (-worth - 1 if worth < 0 else worth).bit_length() + 1
 
 
-def _product_width(first, second, needs):
+def _widest_need(first, second, needs):
     """The greatest of the widths that are needed, each told with its lane and the sign of its end."""
     width, lane, sign = max([(1, 0, 0)] + needs, key=lambda need: need[0])
     if width == 1:

@@ -1,7 +1,7 @@
 """Rows: finite sequences of integers, added, subtracted and multiplied as polynomials."""
 
 from packedlanes.errors import NotMonic
-from packedlanes.lanes import added, check_lanes, check_width, joined, negated, product, quotient, rest, stripped
+from packedlanes.lanes import added, check_lanes, check_width, joined, negated, product, quotient, rest_row, stripped
 
 
 class Row:
@@ -33,7 +33,7 @@ class Row:
 
     def __mod__(self, other):
         _check_monic(other)
-        return Row(rest(self.entries, other.entries))
+        return Row(rest_row(self.entries, other.entries))
 
     def __eq__(self, other):
         return isinstance(other, Row) and self.entries == other.entries

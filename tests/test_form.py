@@ -49,6 +49,55 @@ def names_multiplied(function):
     return {target.id for part in found for target in part.targets if isinstance(target, ast.Name)}
 
 
+def functions_of(trees):
+    """All functions and methods of the files, in lists by their names; a class has the name of its __init__, too."""
+    found = {}
+    for tree in trees:
+        for part in parts_of(tree, ast.FunctionDef):
+            found.setdefault(part.name, []).append(part)
+        for kind in parts_of(tree, ast.ClassDef):
+            made = [part for part in kind.body if isinstance(part, ast.FunctionDef) and part.name == "__init__"]
+            found.setdefault(kind.name, []).extend(made)
+    return found
+
+
+def is_operator(function):
+    """Whether it is an operator that changes nothing, an __eq__, a __len__ and the like, or a property."""
+    if any(isinstance(mark, ast.Name) and mark.id == "property" for mark in function.decorator_list):
+        return True
+    return function.name[:2] == "__" and function.name not in ("__init__", "__iter__", "__setitem__")
+
+
+def reached_by_operators(functions):
+    """The names of what operators call, through what it calls, too, whichever of its functions is meant."""
+    ahead = [part for parts in functions.values() for part in parts if is_operator(part)]
+    reached = []
+    while ahead:
+        for call in parts_of(ahead.pop(), ast.Call):
+            name = getattr(call.func, "id", getattr(call.func, "attr", None))
+            # The errors call the __init__ of Python's own error, which stands above them all.
+            if name in functions and name not in [*reached, "__init__"]:
+                reached.append(name)
+                ahead.extend(functions[name])
+    return reached
+
+
+def is_new(worth):
+    """Whether the expression surely creates a list or a dict."""
+    if isinstance(worth, ast.Call):
+        return isinstance(worth.func, ast.Name) and worth.func.id in ("list", "dict", "sorted")
+    return isinstance(worth, (ast.List, ast.ListComp, ast.Dict, ast.DictComp))
+
+
+def names_created(function):
+    """The names of the function that are never given anything but a new list or dict."""
+    given = [part.id for part in parts_of(function, ast.Name) if isinstance(part.ctx, ast.Store)]
+    given += [part.arg for part in parts_of(function, ast.arg)]
+    created = [target.id for part in parts_of(function, ast.Assign) if is_new(part.value)
+               for target in part.targets if isinstance(target, ast.Name)]
+    return {name for name in created if created.count(name) == given.count(name)}
+
+
 class FormTest(unittest.TestCase):
     def test_interface_is_defined_in_its_files(self):
         for name, classes in METHODS.items():
@@ -106,6 +155,25 @@ class FormTest(unittest.TestCase):
         for path in FILES:
             for part in parts_of(tree_of(path), ast.FunctionDef):
                 self.assertEqual(names_multiplied(part) & names_changed(part), set(), part.name)
+
+    def test_functions_that_operators_reach_have_names_of_their_own(self):
+        told = ast.parse("class A:\n    def __init__(self): f()\n    def __add__(self, x): return A()\n"
+                         "def f(): x.g()\ndef g(): pass\ndef h(): pass\nclass B:\n    def g(self): pass\n")
+        functions = functions_of([told])
+        self.assertEqual((reached_by_operators(functions), len(functions["g"])), (["A", "f", "g"], 2))
+        functions = functions_of([tree_of(path) for path in FILES])
+        reached = reached_by_operators(functions)
+        self.assertTrue({"Row", "stripped", "product", "_product_by_pairs", "rest_row"} <= set(reached))
+        self.assertEqual([name for name in reached if len(functions[name]) != 1], [])
+
+    def test_functions_that_operators_reach_change_only_what_they_created(self):
+        told = ast.parse("def f(n):\n    a, b = g(), [1]\n    c = [k for k in n]\n    d = list(n)\n    d = c\n"
+                         "    a[0] = c[0] = d[0] = n[0]\n").body[0]
+        self.assertEqual(names_created(told), {"c"})
+        functions = functions_of([tree_of(path) for path in FILES])
+        for name in reached_by_operators(functions):
+            for part in functions[name]:
+                self.assertEqual(names_changed(part) - names_created(part), set(), name)
 
     def test_examples_of_the_readme(self):
         text = (TOP / "README.md").read_text(encoding="utf-8").replace("```", "")
