@@ -15,7 +15,9 @@ _MOST_DIVIDING = 12
 # How many entries each step has.
 _ENTRIES = {"let": 4, "over": 4, "rest": 4, "read": 3, "balanced": 3, "rounds": 3}
 _SETTING = ("let", "over", "rest")
-_PLACES = ("over", "rest", "read", "balanced")
+# The two kinds of places.
+DIVIDING = ("over", "rest")
+READING = ("read", "balanced")
 
 
 class Code:
@@ -41,7 +43,8 @@ class Code:
 
     def places(self):
         """The numbers of the over, rest, read and balanced steps."""
-        return [number for number, step in numbered_steps(self.steps) if step[0] in _PLACES]
+        return [number for number, step in numbered_steps(self.steps)
+                if step[0] in DIVIDING or step[0] in READING]
 
 
 def is_name(word):
@@ -137,7 +140,7 @@ def _is_right(step, given, lanes):
         return False
     if step[0] == "let":
         return _may_be_set(step[1], given) and all([_is_right_term(term, lanes) for term in step[2]])
-    if step[0] in ("over", "rest"):
+    if step[0] in DIVIDING:
         return _may_be_set(step[1], given) and step[2] in lanes and step[3][-1:] == (1,)
     if step[0] == "rounds":
         return step[1] >= 0
@@ -174,7 +177,7 @@ def _is_too_great(step):
     if step[0] == "let":
         # A shift above the limit gives the name too many lanes, which are looked at behind this.
         return any([_is_too_long(told) for told in [number for number, _, _ in step[2]] + list(step[3])])
-    if step[0] in ("over", "rest"):
+    if step[0] in DIVIDING:
         return len(step[3]) > _MOST_DIVIDING or any([_is_too_long(told) for told in step[3]])
     if step[0] == "rounds":
         return _is_too_long(step[1])

@@ -1,7 +1,9 @@
 """What the other files share: sequences of entries, and the one number that holds them."""
 
-from packedlanes.errors import BadLanes, BadWidth
+from packedlanes.errors import BadLanes, BadWidth, TooGreat
 
+# The greatest width of runs, of benches and of all that is asked of codes.
+MOST_WIDTH = 4000
 # Up to so many words, Python multiplies two numbers digit by digit.
 _SHORT_WORDS = 70
 # With so few entries in a divisor, dividing lane by lane is the fastest.
@@ -18,6 +20,12 @@ def check_lanes(lanes):
 def check_width(width):
     if width < 1:
         raise BadWidth(width)
+
+
+def check_run_width(width):
+    check_width(width)
+    if width > MOST_WIDTH:
+        raise TooGreat()
 
 
 def stripped(entries):

@@ -1,6 +1,6 @@
 """Codes as texts: one line for each input and for each step."""
 
-from packedlanes.codes import MOST_FIGURES, Code, is_name
+from packedlanes.codes import DIVIDING, MOST_FIGURES, READING, Code, is_name
 from packedlanes.errors import BadText
 
 _INDENT = "  "
@@ -24,7 +24,7 @@ def _line_of(step):
     if step[0] == "let":
         terms = [f"{number}*{name}<<{shift}" for number, name, shift in step[2]]
         return " ".join(["let", step[1]] + terms + ["|"] + _integers(step[3]))
-    if step[0] in ("over", "rest"):
+    if step[0] in DIVIDING:
         return " ".join([step[0], step[1], step[2], "|"] + _integers(step[3]))
     if step[0] == "rounds":
         return f"rounds {step[1]}"
@@ -69,10 +69,10 @@ def _read_input(words, line):
 def _read_step(words, line):
     if words[0] == "let":
         return _read_let(words, line)
-    if words[0] in ("over", "rest"):
+    if words[0] in DIVIDING:
         _check(words[3:4] == ["|"], line)
         return words[0], _name(words[1], line), _name(words[2], line), _row(words[4:], line)
-    if words[0] in ("read", "balanced"):
+    if words[0] in READING:
         _check(len(words) == 3, line)
         return words[0], _name(words[1], line), _integer(words[2], line)
     _check(words[0] == "rounds" and len(words) == 2, line)

@@ -17,10 +17,18 @@ METHODS = {
     "products.py": {"ProductWidth": "__init__", "CutEnds": "__init__"},
     "codes.py": {"Code": "__init__ __eq__ all_names places lanes_of"},
     "texts.py": {},
+    "runs.py": {"Meaning": "__init__", "Run": "__init__"},
+    "wrap.py": {"WrapLanes": "__init__ of digits __len__ __getitem__ __setitem__ __contains__ __eq__ __add__ __sub__ "
+                             "__mul__ __rmul__ __and__ __or__ __xor__ __neg__ __invert__ __lshift__ __rshift__ below "
+                             "least greatest distance average saturated chosen zeros ones turned total halves"},
+    "desks.py": {"Bench": "__init__ put mix over rest widen undo redo all_names row_of number_of shown shown_balanced "
+                          "apart carry hidden least_width"},
+    "places.py": {},
 }
 FUNCTIONS = {"rows.py": ["same_widths"], "packs.py": ["packed"], "boxes.py": [],
              "products.py": ["lane_ends", "least_width", "balanced_width", "cut_ends", "power_ends"], "codes.py": [],
-             "texts.py": ["written", "read_code"]}
+             "texts.py": ["written", "read_code"], "runs.py": ["meaning", "run", "spilled"], "wrap.py": [],
+             "desks.py": [], "places.py": ["given_of", "box_of"]}
 LIBRARY = ("heapq", "math", "itertools", "collections")
 CHANGING = ("append", "clear", "extend", "insert", "pop", "remove", "reverse", "sort")
 
@@ -163,7 +171,7 @@ class FormTest(unittest.TestCase):
         self.assertEqual((reached_by_operators(functions), len(functions["g"])), (["A", "f", "g"], 2))
         functions = functions_of([tree_of(path) for path in FILES])
         reached = reached_by_operators(functions)
-        self.assertTrue({"Row", "stripped", "product", "_product_by_pairs", "rest_row"} <= set(reached))
+        self.assertTrue({"Row", "product", "_product_by_pairs", "rest_row", "WrapLanes", "_lanes_of", "plain_digits"} <= set(reached))
         self.assertEqual([name for name in reached if len(functions[name]) != 1], [])
 
     def test_functions_that_operators_reach_change_only_what_they_created(self):
