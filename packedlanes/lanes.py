@@ -197,10 +197,15 @@ def quotient(entries, divisor):
     return low + high
 
 
+def quotient_and_rest(entries, divisor):
+    """The quotient and the rest row, as lists, of a row by one whose last entry is 1."""
+    times = quotient(entries, divisor)
+    taken = product(times, divisor)
+    return times, added(entries, negated(taken))[:len(divisor) - 1]
+
+
 def rest_row(entries, divisor):
-    """The rest row, as a list, of a row by one whose last entry is 1."""
-    taken = product(quotient(entries, divisor), divisor)
-    return added(entries, negated(taken))[:len(divisor) - 1]
+    return quotient_and_rest(entries, divisor)[1]
 
 
 def divided(number, divisor):

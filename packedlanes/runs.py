@@ -90,10 +90,15 @@ def _input_numbers(code, width, given):
     return {name: joined(given[name], width) for name, _ in code.inputs}
 
 
+def first_lanes(row, count):
+    """The first lanes of a row, as many as are told."""
+    return tuple(row[:count]) + (0,) * (count - len(row))
+
+
 def lanes_meant(step, rows):
     """The lanes that a read or balanced step tells of the row that is meant."""
     _, name, count = step
-    return rows[name][:count] + (0,) * (count - len(rows[name]))
+    return first_lanes(rows[name], count)
 
 
 def _lanes_run(step, width, numbers):

@@ -145,6 +145,39 @@ def inputs_of(code):
         yield {name: tuple(next(left) for _ in ranges) for name, ranges in code.inputs}
 
 
+def clean(code, width):
+    """None, or the number, lane, side and input of the first place that is not clean for some of all inputs."""
+    followed = [(given, Followed(code, width, given)) for given in inputs_of(code)]
+    numbers = [one.spilled for _, one in followed if one.spilled is not None]
+    if not numbers:
+        return None
+    at = [number_of_place for number_of_place, _, _ in followed[0][1].places].index(min(numbers))
+    step = followed[0][1].places[at][1]
+    rows = [(one.places[at][2], given) for given, one in followed]
+    if step[0] in ("over", "rest"):
+        by = number(step[3], width)
+        if by <= 0:
+            return min(numbers), None, "divisor", {name: tuple(low for low, _ in ranges) for name, ranges in code.inputs}
+        found = fault([(number(row, width), given) for row, given in rows], 0, by - 1)
+        return (min(numbers), None, *found)
+    least = 0 if step[0] == "read" else -(2 ** (width - 1))
+    for lane in range(step[2]):
+        found = fault([(row[lane], given) for row, given in rows], least, least + 2 ** width - 1)
+        if found is not None:
+            return (min(numbers), lane, *found)
+    raise AssertionError("a place that is not clean has no fault")
+
+
+def fault(worths, low, high):
+    """The side and the input of the worths that are not from low to high, below first, or None."""
+    for side, end in (("below", min(worth for worth, _ in worths)), ("above", max(worth for worth, _ in worths))):
+        if end < low if side == "below" else end > high:
+            ends = [given for worth, given in worths if worth == end]
+            # Lanes that do not matter are at their least in one of these inputs, together with all others.
+            return side, {name: tuple(map(min, zip(*(given[name] for given in ends)))) for name in ends[0]}
+    return None
+
+
 class CodeSource:
     """Small codes with all kinds of steps, the same ones for the same seed."""
 

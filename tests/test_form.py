@@ -24,11 +24,16 @@ METHODS = {
     "desks.py": {"Bench": "__init__ put mix over rest widen undo redo all_names row_of number_of shown shown_balanced "
                           "apart carry hidden least_width"},
     "places.py": {},
+    "checking.py": {"Spill": "__init__ __eq__"},
+    "widths.py": {"Widths": "__init__ has", "Least": "__init__"},
+    "rounds.py": {},
+    "alike.py": {"Unlike": "__init__"},
 }
 FUNCTIONS = {"rows.py": ["same_widths"], "packs.py": ["packed"], "boxes.py": [],
              "products.py": ["lane_ends", "least_width", "balanced_width", "cut_ends", "power_ends"], "codes.py": [],
              "texts.py": ["written", "read_code"], "runs.py": ["meaning", "run", "spilled"], "wrap.py": [],
-             "desks.py": [], "places.py": ["given_of", "box_of"]}
+             "desks.py": [], "places.py": ["given_of", "box_of"], "checking.py": ["clean"],
+             "widths.py": ["serves", "least"], "rounds.py": ["with_rounds", "stretch"], "alike.py": ["alike"]}
 LIBRARY = ("heapq", "math", "itertools", "collections")
 CHANGING = ("append", "clear", "extend", "insert", "pop", "remove", "reverse", "sort")
 
