@@ -10,16 +10,16 @@ class Meaning:
     """The rows at the end and the lanes that are read, when a code is executed over rows."""
 
     def __init__(self, rows, reads):
-        self.rows = rows
-        self.reads = reads
+        self.rows = dict(rows)
+        self.reads = list(reads)
 
 
 class Run:
     """The integers at the end, the lanes that are read, and the step before which a run ended, or None."""
 
     def __init__(self, numbers, reads, stopped):
-        self.numbers = numbers
-        self.reads = reads
+        self.numbers = dict(numbers)
+        self.reads = list(reads)
         self.stopped = stopped
 
 

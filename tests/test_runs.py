@@ -293,6 +293,13 @@ class RunsTest(plain.Case):
         self.assertEqual((first.rows["a"], told.numbers["a"]), ((4,), 4))
         self.assertEqual(code.steps[1:], (("read", "v", 1),))
 
+    def test_lists_are_copied(self):
+        named, reads = {"v": (1,)}, [(1,)]
+        told, found = Meaning(named, reads), Run(named, reads, None)
+        named.clear()
+        reads.clear()
+        self.assertEqual((told.rows, told.reads, found.numbers, found.reads), ({"v": (1,)}, [(1,)]) * 2)
+
     def test_kinds_of_what_is_told(self):
         code = Code([("a", [(0, 9)])], [("read", "a", 2), ("balanced", "a", 1), ("over", "v", "a", [0, 1]),
                                         ("rest", "w", "a", [0, 1])])
