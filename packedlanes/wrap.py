@@ -29,7 +29,7 @@ class WrapLanes:
         return tuple(_lanes_of(self))
 
     def __len__(self):
-        return len(range(self.many))
+        return len(list(range(self.many)))
 
     def __getitem__(self, at):
         _check_lane(at, self.many)

@@ -111,6 +111,19 @@ def names_created(function):
     return {name for name in created if created.count(name) == given.count(name)}
 
 
+def lengths_of_ranges(trees):
+    """The methods __len__ that ask for the length of a range itself, if a class of the files has a __getitem__."""
+    functions = functions_of(trees)
+    if "__getitem__" not in functions:
+        return []
+    calls = [(method, call) for method in functions.get("__len__", []) for call in parts_of(method, ast.Call)]
+    return [method for method, call in calls if calls_name(call, "len") and calls_name(call.args[0], "range")]
+
+
+def calls_name(part, name):
+    return isinstance(part, ast.Call) and isinstance(part.func, ast.Name) and part.func.id == name
+
+
 class FormTest(unittest.TestCase):
     def test_interface_is_defined_in_its_files(self):
         for name, classes in METHODS.items():
@@ -187,6 +200,15 @@ class FormTest(unittest.TestCase):
         for name in reached_by_operators(functions):
             for part in functions[name]:
                 self.assertEqual(names_changed(part) - names_created(part), set(), name)
+
+    def test_no_len_gives_back_the_length_of_a_range(self):
+        told = ("class A:\n    def __len__(self): return len(range(self.n))\n"
+                "class B:\n    def __len__(self): return len(list(range(self.n)))\n")
+        more = "class C:\n    def __getitem__(self, at): return at\n"
+        self.assertEqual([len(lengths_of_ranges([ast.parse(text)])) for text in (told, told + more)], [0, 1])
+        trees = [tree_of(path) for path in FILES]
+        self.assertEqual([len(functions_of(trees)[name]) for name in ("__len__", "__getitem__")], [1, 1])
+        self.assertEqual(lengths_of_ranges(trees), [])
 
     def test_examples_of_the_readme(self):
         text = (TOP / "README.md").read_text(encoding="utf-8").replace("```", "")
