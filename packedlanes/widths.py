@@ -28,46 +28,62 @@ class Least:
         self.spills = tuple(spills)
 
 
+class Faults:
+    """What the places that were looked at tell of all widths: each one below an edge, and those from the edge on.
+
+    From the edge on, all widths are alike, so they are looked at as one.
+    """
+
+    def __init__(self):
+        self.edge = 1
+        # Whether the widths from the edge on are clean.
+        self.always = True
+        # The clean widths below the edge, ascending; and for each other one the place that spills and its fault.
+        self.some = []
+        self.spoiled = {}
+
+    def look_at(self, place):
+        """Takes the next place into account."""
+        steady = min(_steady_width_of(place), MOST_WIDTH)
+        if self.always and self.edge < steady:
+            self.some = self.some + list(range(self.edge, steady))
+            self.edge = steady
+        steady_fault = fault_at(place, steady)
+        for width in self.some:
+            fault = steady_fault if width >= steady else fault_at(place, width)
+            if fault is not None:
+                self.spoiled[width] = (place, fault)
+        self.some = [width for width in self.some if width not in self.spoiled]
+        self.always = self.always and steady_fault is None
+
+
 def serves(code):
     """The widths at which a code is clean for all inputs."""
     faults = _faults_of(code)
-    always = MOST_WIDTH not in faults
-    start = MOST_WIDTH
-    while start > 1 and (start - 1 not in faults) == always:
+    start = faults.edge
+    while start > 1 and (start - 1 not in faults.spoiled) == faults.always:
         start = start - 1
-    return Widths([width for width in range(1, start) if width not in faults], start, always)
+    return Widths([width for width in faults.some if width < start], start, faults.always)
 
 
 def least(code):
     """The least width at which a code is clean for all inputs."""
     faults = _faults_of(code)
-    for width in range(1, MOST_WIDTH + 1):
-        if width not in faults:
-            return Least(width, [spill_of(code, faults[lesser][0], lesser, faults[lesser][1])
-                                 for lesser in range(1, width)])
-    return Least(None, [])
+    served = faults.some + [faults.edge] if faults.always else faults.some
+    if len(served) == 0:
+        return Least(None, [])
+    told = [(width, faults.spoiled[width]) for width in range(1, served[0])]
+    return Least(served[0], [spill_of(code, place, width, fault) for width, (place, fault) in told])
 
 
 def _faults_of(code):
-    """For each width that is not clean, the place that spills and its fault."""
-    faults = {}
-    left = list(range(1, MOST_WIDTH + 1))
+    """The faults of all places; those behind one from which on no width is clean are not looked at."""
+    faults = Faults()
     for place in places_of(code):
-        told = _faults_of_place(place, left)
-        for width in told:
-            faults[width] = (place, told[width])
-        left = [width for width in left if width not in told]
-        if len(left) == 0:
+        faults.look_at(place)
+        if not faults.always and len(faults.some) == 0:
             break
     return faults
-
-
-def _faults_of_place(place, widths):
-    """The faults of a place at those of the told widths at which it has one."""
-    steady = min(_steady_width_of(place), MOST_WIDTH)
-    always = fault_at(place, steady)
-    faults = {width: always if width >= steady else fault_at(place, width) for width in widths}
-    return {width: faults[width] for width in faults if faults[width] is not None}
 
 
 def _steady_width_of(place):

@@ -1,5 +1,7 @@
 """Point 36: the widths at which a code is clean for all inputs, and the least one."""
 
+from unittest.mock import patch
+
 import plain
 from packedlanes.checking import Spill, clean
 from packedlanes.codes import Code
@@ -112,6 +114,44 @@ class WidthsTest(plain.Case):
         self.is_least(roots(3, 9), 1)
         self.is_least(roots(3, 9, 40, 70), 4)
         self.is_least(roots(1, 300), 9)
+
+    def test_places_one_behind_the_other(self):
+        bend = [let("v", (5, "u", 0), (-1, "u", 1)), ("over", "t", "v", [0, 0, 1])]
+        # A place behind one that is clean at few widths takes of these only, however great its own numbers are.
+        for worth, some, start in ((1, (1, 2), 3), (3, (2,), 3), (2 ** 100, (), 1)):
+            code = Code([("u", [(0, 1)])], bend + [let("w", row=[worth]), ("read", "w", 1)])
+            self.serves_so(code, some, start, False)
+            self.is_least(code, some[0] if some else None)
+        grow = [let("s", row=[2 ** bits - 1]) for bits in (9, 3, 70, 20)]
+        code = Code([], [step for let_of_bits in grow for step in (let_of_bits, ("read", "s", 1))])
+        self.serves_so(code, (), 70, True)
+        self.assertEqual([spill.number for spill in least(code).spills], [1] * 8 + [5] * 61)
+        self.serves_so(Code([], [*code.steps, let("s", row=[-1]), ("read", "s", 1)]), (), 1, False)
+
+    def test_two_small_codes(self):
+        code = Code([("a", [(0, 3), (1, 3)]), ("b", [(0, 2)])],
+                    [let("v", (2, "a", 0), (1, "b", 1), row=[1, 2]), ("read", "v", 2), ("balanced", "v", 2),
+                     ("read", "v", 3), ("balanced", "v", 4), ("read", "b", 2)])
+        self.serves_so(code, (), 5, True)
+        found = least(code)
+        self.assertEqual(found.width, 5)
+        self.assertEqual([(spill.number, spill.lane, spill.side, spill.given) for spill in found.spills],
+                         [(1, 0, "above", {"a": (3, 1), "b": (0,)})] * 2
+                         + [(number, 1, "above", {"a": (0, 3), "b": (2,)}) for number in (1, 2)])
+        code = Code([("a", [(-3, 0), (1, 3)]), ("b", [(0, 2)])],
+                    [let("v", (1, "a", 0), (1, "b", 1), row=[0, 1]), ("read", "v", 2), ("over", "t", "v", (0, 0, 1)),
+                     let("w", (1, "t", 0)), ("balanced", "w", 4),
+                     ("rounds", 3, [let("w", (1, "w", 0), (1, "a", 0))]), ("read", "w", 2)])
+        self.serves_so(code, (), 1, False)
+        self.is_least(code, None)
+
+    def test_small_codes_are_not_looked_at_width_by_width(self):
+        codes = plain.codes_of(24, 300)
+        told = [(vars(serves(code)), least(code).width, least(code).spills) for code in codes]
+        # Nothing could go over so many widths.
+        with patch("packedlanes.widths.MOST_WIDTH", 10 ** 30):
+            for code, answers in zip(codes, told):
+                self.assertEqual((vars(serves(code)), least(code).width, least(code).spills), answers)
 
     def test_has(self):
         for found in (serves(roots(3, 9)), serves(Code([], []))):
